@@ -17,7 +17,7 @@ func (c *call) link() (api.Told, api.Errno) {
 	return api.Told{}, c.table.Link(box.Id, o.Id)
 }
 
-// entry answers what P names, in a container that the caller alters, if it may do that with it.
+// entry tells whether P names something that the caller may use so, in a container that it alters.
 func (c *call) entry(may func(api.Label) bool) api.Errno {
 	if _, e := c.target(c.P, anyKind, may); e != api.OK {
 		return e
