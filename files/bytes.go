@@ -14,12 +14,12 @@ func (f *Files) Read(w api.Whence, path string, at, n int) (string, api.Errno) {
 	case at < 0 || n < 0:
 		return "", api.ErrInval
 	}
-	size, e := p.size(p.ref())
+	size, e := p.Size(p.ref())
 	if e != api.OK {
 		return "", e
 	}
 	at = min(at, size)
-	return p.read(p.ref(), at, min(n, size-at))
+	return p.Read(p.ref(), at, min(n, size-at))
 }
 
 // Write: bytes into a file.
@@ -31,19 +31,19 @@ func (f *Files) Write(w api.Whence, path string, at int, s string) api.Errno {
 	case at < 0:
 		return api.ErrInval
 	}
-	size, e := p.size(p.ref())
+	size, e := p.Size(p.ref())
 	switch {
 	case e != api.OK:
 		return e
 	case at > maxBytes-len(s):
 		return api.ErrNoSpc
 	case s == "":
-		return p.resize(p.ref(), size)
+		return p.Resize(p.ref(), size)
 	}
-	if e := p.resize(p.ref(), max(size, at+len(s))); e != api.OK {
+	if e := p.Resize(p.ref(), max(size, at+len(s))); e != api.OK {
 		return e
 	}
-	return p.write(p.ref(), at, s)
+	return p.Write(p.ref(), at, s)
 }
 
 // Cut: how long a file is.
@@ -57,7 +57,7 @@ func (f *Files) Cut(w api.Whence, path string, n int) api.Errno {
 	case n > maxBytes:
 		return api.ErrNoSpc
 	}
-	return p.resize(p.ref(), n)
+	return p.Resize(p.ref(), n)
 }
 
 // Stat: what a path names.
@@ -83,11 +83,11 @@ func (f *Files) Stat(w api.Whence, path string) (api.Stat, api.Errno) {
 
 // aboutFile answers the label of the file that is there, and how many bytes it has.
 func (p place) aboutFile() (api.Label, int, api.Errno) {
-	l, e := p.look(p.ref())
+	l, e := p.Look(p.ref())
 	if e != api.OK {
 		return api.Label{}, 0, e
 	}
-	n, e := p.size(p.ref())
+	n, e := p.Size(p.ref())
 	return l, n, e
 }
 
@@ -97,9 +97,9 @@ func (p place) aboutDir() (api.Label, int, api.Errno) {
 	if e != api.OK {
 		return api.Label{}, 0, e
 	}
-	l, e := p.look(p.ref())
+	l, e := p.Look(p.ref())
 	if e != api.OK { // who opens a directory need not see what it lies in; its bytes have the same label
-		l, e = p.look(d.bytes)
+		l, e = p.Look(d.bytes)
 	}
 	return l, len(d.list), e
 }

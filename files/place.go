@@ -4,20 +4,21 @@ import (
 	"slices"
 
 	"gatehouse/api"
+	"gatehouse/ask"
 	"gatehouse/dir"
 )
 
 // folder is a directory that a thread has opened: its container, the segment that holds its bytes, the entries that these say.
 type folder struct {
-	caller
+	ask.Caller
 	box   int
 	bytes api.Ref
 	list  []api.Name
 }
 
 // open opens the directory of a container.
-func (c caller) open(box int) (folder, api.Errno) {
-	told, e := c.ask(api.Call{Op: api.CallList, P: api.Ref{In: box}})
+func open(c ask.Caller, box int) (folder, api.Errno) {
+	told, e := c.Do(api.Call{Op: api.CallList, P: api.Ref{In: box}})
 	if e != api.OK {
 		return folder{}, e
 	}
@@ -25,11 +26,11 @@ func (c caller) open(box int) (folder, api.Errno) {
 		return folder{}, api.ErrForm
 	}
 	bytes := api.Ref{In: box, Id: told.List[0]}
-	n, e := c.size(bytes)
+	n, e := c.Size(bytes)
 	if e != api.OK {
 		return folder{}, e
 	}
-	s, e := c.read(bytes, 0, n)
+	s, e := c.Read(bytes, 0, n)
 	if e != api.OK {
 		return folder{}, e
 	}
@@ -37,7 +38,7 @@ func (c caller) open(box int) (folder, api.Errno) {
 	if e != api.OK {
 		return folder{}, e
 	}
-	return folder{caller: c, box: box, bytes: bytes, list: list}, api.OK
+	return folder{Caller: c, box: box, bytes: bytes, list: list}, api.OK
 }
 
 // save lets the directory have these entries; the segment refuses the length, or nothing.
@@ -46,10 +47,10 @@ func (d folder) save(list []api.Name) api.Errno {
 	if e != api.OK {
 		return e
 	}
-	if e := d.resize(d.bytes, len(s)); e != api.OK {
+	if e := d.Resize(d.bytes, len(s)); e != api.OK {
 		return e
 	}
-	return d.write(d.bytes, 0, s)
+	return d.Write(d.bytes, 0, s)
 }
 
 // at answers the place of a name in the directory.
@@ -88,7 +89,7 @@ func (f *Files) walk(w api.Whence, path string) (place, api.Errno) {
 	if e != api.OK {
 		return place{}, e
 	}
-	above := folder{caller: caller{kernel: f.kernel, Whence: w}, box: f.root.In}
+	above := folder{Caller: ask.Caller{Kernel: f.kernel, Whence: w}, box: f.root.In}
 	p := place{folder: above, Name: api.Name{Kind: api.ADir, Id: f.root.Id}, there: true}
 	for _, name := range names {
 		d, e := p.enter()
@@ -132,7 +133,7 @@ func (p place) enter() (folder, api.Errno) {
 	case p.Kind != api.ADir:
 		return folder{}, api.ErrNotDir
 	}
-	return p.open(p.Id)
+	return open(p.Caller, p.Id)
 }
 
 // empty tells whether the directory that is there has no entries.
@@ -162,7 +163,7 @@ func (p place) link(file place) api.Errno {
 		return e
 	}
 	if !has(p.list, file.Id) {
-		if _, e := p.ask(api.Call{Op: api.CallLink, P: file.ref(), Q: api.Ref{In: p.box}}); e != api.OK {
+		if _, e := p.Do(api.Call{Op: api.CallLink, P: file.ref(), Q: api.Ref{In: p.box}}); e != api.OK {
 			return e
 		}
 	}
@@ -177,7 +178,7 @@ func (p place) link(file place) api.Errno {
 func (p place) unlink(id int) {
 	p.save(p.list)
 	if !has(p.list, id) {
-		p.drop(p.box, id)
+		p.Drop(api.Ref{In: p.box, Id: id})
 	}
 }
 
@@ -190,7 +191,7 @@ func (p place) remove() api.Errno {
 	if has(list, p.Id) {
 		return p.save(list)
 	}
-	if e := p.drop(p.box, p.Id); e != api.OK {
+	if e := p.Drop(p.ref()); e != api.OK {
 		return e
 	}
 	p.save(list)
@@ -199,7 +200,7 @@ func (p place) remove() api.Errno {
 
 // removeNow is remove with the entries that the directory has by now: two directories may have their bytes in one segment.
 func (p place) removeNow() api.Errno {
-	d, e := p.open(p.box)
+	d, e := open(p.Caller, p.box)
 	if e != api.OK {
 		return e
 	}
